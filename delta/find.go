@@ -1,0 +1,105 @@
+package delta
+
+const (
+	word     = 4  // bytes by which a piece of the base is found again
+	tries    = 16 // places that are looked at for a word: bounds the time on texts that repeat themselves
+	slotBits = 12
+	slots    = 1 << slotBits
+)
+
+// find tells steps that make target of base. They are never longer, written,
+// than a single step that puts all of target.
+func find(base string, target string) []step {
+	places := index(base)
+	var steps []step
+	done := 0
+	for at := 0; at+word <= len(target); {
+		ahead, take := places.longest(target, done, at)
+		if !worth(take) {
+			at++
+			continue
+		}
+		steps = append(steps, putSteps(target[done:at-ahead])...)
+		steps = append(steps, take)
+		done = at - ahead + take.size
+		at = done
+	}
+	return append(steps, putSteps(target[done:])...)
+}
+
+// worth says whether a step that takes is shorter than its bytes, were they
+// put. The two bytes are for the head of a put that it cuts off from another.
+func worth(take step) bool {
+	return take.size > 0 && len(head(take))+2 <= take.size
+}
+
+// putSteps is the step that puts s, or none, if there is nothing to put.
+func putSteps(s string) []step {
+	if s == "" {
+		return nil
+	}
+	return []step{putStep(s)}
+}
+
+// words tells the places at which each word stands in a base. Words share
+// slots, for what is found is compared anyway; and each place is kept one
+// higher, so that 0 says that there is none.
+type words struct {
+	base  string
+	first [slots]int
+	next  []int // by a place: the next one of the same slot
+}
+
+func index(base string) *words {
+	w := &words{base: base, next: make([]int, len(base))}
+	// From the end on, so that the first place of a word is tried first: this
+	// finds a base that was not changed whole, whatever it repeats.
+	for place := len(base) - word; place >= 0; place-- {
+		i := slot(base[place:])
+		w.next[place] = w.first[i]
+		w.first[i] = place + 1
+	}
+	return w
+}
+
+// slot spreads words over the slots: the factor, 2 to the power 32 cut in the
+// golden section, carries all their bits into the highest ones.
+func slot(s string) int {
+	n := uint32(s[0]) | uint32(s[1])<<8 | uint32(s[2])<<16 | uint32(s[3])<<24
+	return int(n * 2654435761 >> (32 - slotBits))
+}
+
+// longest tells the longest step that takes what stands in target around at,
+// and how many bytes of that are ahead of at (but none of those already done).
+func (w *words) longest(target string, done int, at int) (int, step) {
+	ahead, take := 0, step{}
+	link := w.first[slot(target[at:])]
+	for n := 0; link > 0 && n < tries; n++ {
+		place := link - 1
+		back := sameEnd(w.base[:place], target[done:at])
+		size := back + sameBegin(w.base[place:], target[at:])
+		if size > take.size {
+			ahead, take = back, takeStep(place-back, size)
+		}
+		link = w.next[place]
+	}
+	return ahead, take
+}
+
+// sameBegin is how many bytes two texts have in common at their beginning.
+func sameBegin(a string, b string) int {
+	n := 0
+	for n < min(len(a), len(b)) && a[n] == b[n] {
+		n++
+	}
+	return n
+}
+
+// sameEnd is how many bytes two texts have in common at their end.
+func sameEnd(a string, b string) int {
+	n := 0
+	for n < min(len(a), len(b)) && a[len(a)-1-n] == b[len(b)-1-n] {
+		n++
+	}
+	return n
+}
