@@ -1,5 +1,7 @@
 package delta
 
+import "strata/texts"
+
 const (
 	word     = 4  // bytes by which a piece of the base is found again
 	tries    = 16 // places that are looked at for a word: bounds the time on texts that repeat themselves
@@ -77,22 +79,13 @@ func (w *words) longest(target string, done int, at int) (int, step) {
 	for n := 0; link > 0 && n < tries; n++ {
 		place := link - 1
 		back := sameEnd(w.base[:place], target[done:at])
-		size := back + sameBegin(w.base[place:], target[at:])
+		size := back + texts.SameBegin(w.base[place:], target[at:])
 		if size > take.size {
 			ahead, take = back, takeStep(place-back, size)
 		}
 		link = w.next[place]
 	}
 	return ahead, take
-}
-
-// sameBegin is how many bytes two texts have in common at their beginning.
-func sameBegin(a string, b string) int {
-	n := 0
-	for n < min(len(a), len(b)) && a[n] == b[n] {
-		n++
-	}
-	return n
 }
 
 // sameEnd is how many bytes two texts have in common at their end.

@@ -2,9 +2,9 @@ package delta
 
 import (
 	"sort"
-	"strings"
 
 	"strata/api"
+	"strata/texts"
 	"strata/wire"
 )
 
@@ -107,7 +107,7 @@ func readStep(s string, at int) (step, int, bool) {
 // write is the change that has these steps. Steps that one can stand for
 // become one: Compose's cuts leave many such.
 func write(steps ...step) string {
-	parts := []string{number(made(steps...))}
+	parts := []string{texts.Number(made(steps...))}
 	for len(steps) > 0 {
 		n := 1
 		for n < len(steps) && steps[n-1].leadsTo(steps[n]) {
@@ -119,16 +119,16 @@ func write(steps ...step) string {
 		}
 		steps = steps[n:]
 	}
-	return join(parts...)
+	return texts.Join(parts...)
 }
 
 // head is the numbers that one step begins with, that stands for all of these.
 func head(steps ...step) string {
 	size := made(steps...)
 	if steps[0].puts() {
-		return number(2 * size)
+		return texts.Number(2 * size)
 	}
-	return join(number(2*size+1), number(steps[0].place))
+	return texts.Join(texts.Number(2*size+1), texts.Number(steps[0].place))
 }
 
 // made is how many bytes the steps make.
@@ -161,26 +161,5 @@ func text(base string, steps ...step) string {
 			parts = append(parts, base[s.place:s.place+s.size])
 		}
 	}
-	return join(parts...)
-}
-
-// number writes a number that is known to be one.
-func number(n int) string {
-	s, _ := wire.Put(n)
-	return s
-}
-
-// join puts texts one behind the other, always in new memory (P2): the
-// library's Join hands a single text back as it is.
-func join(parts ...string) string {
-	size := 0
-	for _, p := range parts {
-		size += len(p)
-	}
-	var b strings.Builder
-	b.Grow(size)
-	for _, p := range parts {
-		b.WriteString(p)
-	}
-	return b.String()
+	return texts.Join(parts...)
 }
