@@ -1,12 +1,14 @@
 package delta
 
-import "strata/texts"
+import (
+	"math/bits"
+
+	"strata/texts"
+)
 
 const (
-	word     = 4  // bytes by which a piece of the base is found again
-	tries    = 16 // places that are looked at for a word: bounds the time on texts that repeat themselves
-	slotBits = 12
-	slots    = 1 << slotBits
+	word  = 4  // bytes by which a piece of the base is found again
+	tries = 16 // places that are looked at for a word: bounds the time on texts that repeat themselves
 )
 
 // find tells steps that make target of base. They are never longer, written,
@@ -45,37 +47,40 @@ func putSteps(s string) []step {
 
 // words tells the places at which each word stands in a base. Words share
 // slots, for what is found is compared anyway; and each place is kept one
-// higher, so that 0 says that there is none.
+// higher, so that 0 says that there is none. There are about as many slots as
+// places, and they are small: most bases are short, and Diff is asked often.
 type words struct {
 	base  string
-	first [slots]int
-	next  []int // by a place: the next one of the same slot
+	bits  int      // of a slot's number
+	first []uint16 // by a slot
+	next  []uint16 // by a place: the next one of the same slot
 }
 
 func index(base string) *words {
-	w := &words{base: base, next: make([]int, len(base))}
+	n := bits.Len(uint(len(base)))
+	w := &words{base: base, bits: n, first: make([]uint16, 1<<n), next: make([]uint16, len(base))}
 	// From the end on, so that the first place of a word is tried first: this
 	// finds a base that was not changed whole, whatever it repeats.
 	for place := len(base) - word; place >= 0; place-- {
-		i := slot(base[place:])
+		i := w.slot(base[place:])
 		w.next[place] = w.first[i]
-		w.first[i] = place + 1
+		w.first[i] = uint16(place + 1)
 	}
 	return w
 }
 
 // slot spreads words over the slots: the factor, 2 to the power 32 cut in the
 // golden section, carries all their bits into the highest ones.
-func slot(s string) int {
+func (w *words) slot(s string) int {
 	n := uint32(s[0]) | uint32(s[1])<<8 | uint32(s[2])<<16 | uint32(s[3])<<24
-	return int(n * 2654435761 >> (32 - slotBits))
+	return int(n * 2654435761 >> (32 - w.bits))
 }
 
 // longest tells the longest step that takes what stands in target around at,
 // and how many bytes of that are ahead of at (but none of those already done).
 func (w *words) longest(target string, done int, at int) (int, step) {
 	ahead, take := 0, step{}
-	link := w.first[slot(target[at:])]
+	link := int(w.first[w.slot(target[at:])])
 	for n := 0; link > 0 && n < tries; n++ {
 		place := link - 1
 		back := sameEnd(w.base[:place], target[done:at])
@@ -83,7 +88,7 @@ func (w *words) longest(target string, done int, at int) (int, step) {
 		if size > take.size {
 			ahead, take = back, takeStep(place-back, size)
 		}
-		link = w.next[place]
+		link = int(w.next[place])
 	}
 	return ahead, take
 }
