@@ -4,6 +4,7 @@ package texts
 import (
 	"strings"
 
+	"strata/api"
 	"strata/wire"
 )
 
@@ -35,4 +36,49 @@ func SameBegin(a string, b string) int {
 		n++
 	}
 	return n
+}
+
+// Reader goes through a text. What is not there it tells as 0 or the empty
+// text, and nothing of what would stand behind it is there either.
+type Reader struct {
+	text   string
+	at     int
+	failed bool
+}
+
+// Read begins to go through a text.
+func Read(text string) *Reader { return &Reader{text: text} }
+
+// Number reads a number that is not above most.
+func (r *Reader) Number(most int) int {
+	n, next, e := wire.Get(r.text, r.at)
+	if e != api.OK || n > most {
+		r.fail()
+		return 0
+	}
+	r.at = next
+	return n
+}
+
+// Bytes reads the next n bytes, 0 at least.
+func (r *Reader) Bytes(n int) string {
+	if n > len(r.text)-r.at {
+		r.fail()
+		return ""
+	}
+	s := r.text[r.at : r.at+n]
+	r.at += n
+	return s
+}
+
+// More says whether something is left to be read.
+func (r *Reader) More() bool { return r.at < len(r.text) }
+
+// Failed says whether something that was to be read was not there.
+func (r *Reader) Failed() bool { return r.failed }
+
+// fail leaves nothing to be read, so that whoever reads till the end comes to it.
+func (r *Reader) fail() {
+	r.at = len(r.text)
+	r.failed = true
 }

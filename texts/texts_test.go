@@ -56,3 +56,37 @@ func TestSameBegin(t *testing.T) {
 		}
 	}
 }
+
+func TestReaderReadsWhatIsThere(t *testing.T) {
+	r := texts.Read("\x05hello\xac\x02\x00")
+	if s := r.Bytes(r.Number(5)); s != "hello" {
+		t.Errorf("Bytes = %q", s)
+	}
+	if n := r.Number(300); n != 300 || !r.More() {
+		t.Errorf("Number = %d, more: %t", n, r.More())
+	}
+	if s, n := r.Bytes(0), r.Number(0); s != "" || n != 0 || r.More() || r.Failed() {
+		t.Errorf("at the end: %q, %d, more: %t, failed: %t", s, n, r.More(), r.Failed())
+	}
+	if s := r.Bytes(0); s != "" || r.Failed() {
+		t.Errorf("no bytes at the end: %q, failed: %t", s, r.Failed())
+	}
+}
+
+func TestReaderBehindWhatIsNotThere(t *testing.T) {
+	for name, ask := range map[string]func(r *texts.Reader){
+		"a number above":  func(r *texts.Reader) { r.Number(4) },
+		"no number":       func(r *texts.Reader) { r.Bytes(1); r.Number(1 << 50) },
+		"a byte too many": func(r *texts.Reader) { r.Bytes(5) },
+		"far too many":    func(r *texts.Reader) { r.Bytes(1); r.Bytes(1<<63 - 1) },
+	} {
+		r := texts.Read("\x05\x80\x00\x01")
+		ask(r)
+		if !r.Failed() || r.More() {
+			t.Errorf("%s: failed: %t, more: %t", name, r.Failed(), r.More())
+		}
+		if n, s := r.Number(99), r.Bytes(1); n != 0 || s != "" || !r.Failed() {
+			t.Errorf("%s: then %d and %q are there", name, n, s)
+		}
+	}
+}
