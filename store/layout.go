@@ -43,9 +43,20 @@ func (n entry) compare(m entry) int {
 	return cmp.Or(strings.Compare(n.key, m.key), cmp.Compare(m.stamp, n.stamp))
 }
 
+// settle lets the file that was found last, and nothing beside it: somebody may
+// have laid it on this disk without syncing it.
+func settle(d *disk.Disk) api.Errno {
+	if e := ifThere(d.Sync(laid)); e != api.OK {
+		return e
+	}
+	return tidy(d)
+}
+
 // tidy takes away what was laid down, but not to its end.
-func tidy(d *disk.Disk) api.Errno {
-	e := d.Remove(fresh)
+func tidy(d *disk.Disk) api.Errno { return ifThere(d.Remove(fresh)) }
+
+// ifThere is what a call of the disk answers that may find no file.
+func ifThere(e api.Errno) api.Errno {
 	if e == api.ErrName {
 		return api.OK
 	}

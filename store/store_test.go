@@ -610,6 +610,9 @@ func TestP19AFullDiskLeavesAllAsItWas(t *testing.T) {
 		p.same()
 		p.do(reopen) // what was not flushed is gone
 		p.same()
+		p.do(raise(maxStamp))
+		p.answers(api.ErrFull, flush)
+		p.answers(api.ErrPending, compact) // a watermark alone is still pending too
 	}
 }
 
@@ -751,23 +754,31 @@ func dies(t *testing.T) *pair {
 	return p
 }
 
+// allDead holds all calls of a store that has met a dead disk to ErrDead, which
+// comes ahead of all other errors.
+func (p *pair) allDead() {
+	p.t.Helper()
+	for _, c := range []call{put("k", maxStamp, ""), put("", -1, longest+"x"), del("k", maxStamp), del("", -1), raise(maxStamp), raise(-2), flush, compact} {
+		if _, e := c.on(p.d, p.s); e != api.ErrDead {
+			p.t.Fatalf("%v: %v: %d, want ErrDead", p.tail(), c, e)
+		}
+	}
+	for _, key := range []string{"k", "l", "not there", ""} {
+		for _, stamp := range []int{maxStamp, -1} {
+			if v, there, e := p.s.GetAt(key, stamp); v != "" || there || e != api.ErrDead {
+				p.t.Fatalf("%v: GetAt(%q, %d) = %q, %t, %d, want ErrDead", p.tail(), key, stamp, v, there, e)
+			}
+		}
+	}
+}
+
 func TestP16ToP20AStoreThatHasMetADeadDisk(t *testing.T) {
 	for _, crash := range []bool{false, true} {
 		p := dies(t)
 		if crash {
 			p.d.Crash(nil)
 		}
-		// ErrDead comes ahead of all other errors.
-		for _, c := range []call{put("k", 9, ""), put("", -1, longest+"x"), del("k", 9), del("", -1), raise(9), raise(-2), flush, compact} {
-			p.answers(api.ErrDead, c)
-		}
-		for _, key := range []string{"k", "l", "not there", ""} {
-			for _, stamp := range []int{9, -1} {
-				if v, there, e := p.s.GetAt(key, stamp); v != "" || there || e != api.ErrDead {
-					t.Errorf("GetAt(%q, %d) = %q, %t, %d, want ErrDead", key, stamp, v, there, e)
-				}
-			}
-		}
+		p.allDead()
 		p.d.Crash(nil)
 		p.do(reopen)
 		p.same()

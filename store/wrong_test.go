@@ -79,6 +79,95 @@ func TestP1NoCallPanicsWhateverBytesTheFilesHave(t *testing.T) {
 	}
 }
 
+// Each file of at most two bytes.
+func TestP1ShortFiles(t *testing.T) {
+	for n := range 1 + 256 + 65536 {
+		bytes := ""
+		for ; n > 0; n = (n - 1) / 256 {
+			bytes += string([]byte{byte((n - 1) % 256)})
+		}
+		d := newDisk(t, 10)
+		d.Append("store", bytes)
+		if s, e := store.Open(d); s != nil || e != api.ErrCorrupt {
+			t.Fatalf("%q: Open: %d, want ErrCorrupt", bytes, e)
+		}
+		if s, e := d.Read("store"); s != bytes || e != api.OK {
+			t.Fatalf("%q: it is %q, %d", bytes, s, e)
+		}
+	}
+}
+
+// Files of any names and bytes, beside the store's file or without it, up to as
+// many as there can be.
+func TestP1FilesOfAnyNames(t *testing.T) {
+	r := rand.New(rand.NewSource(3))
+	good := files(t, newPair(t, plenty, put("a", 1, "x"), put("k", 5, "y"), flush).d)["store"]
+	for i := range 600 {
+		d := newDisk(t, []int{0, 10, 100, 1000, plenty}[r.Intn(5)])
+		if r.Intn(2) == 0 {
+			d.Append("store", good)
+		}
+		for range []int{0, 1, 2, 70}[i%4] {
+			name := []string{"store.new", "store.old", "store", "\x00", noise(r, 1+r.Intn(32))}[r.Intn(5)]
+			d.Append(name, wrongFile(r, good))
+		}
+		// Some of it is not synced, and is lost.
+		if r.Intn(2) == 0 {
+			d.Crash([]int{r.Intn(50), r.Intn(50)})
+		}
+		if s, e := store.Open(d); e == api.OK {
+			every(d, s)
+		} else if s != nil || e != api.ErrCorrupt {
+			t.Fatalf("Open: %d", e)
+		}
+	}
+}
+
+// someRecords: records in order, of kinds and bodies that mostly no store lays
+// down so.
+func someRecords(r *rand.Rand) []api.Record {
+	var l []api.Record
+	for _, key := range []string{"a", "k", "k1", "ky2"} {
+		for stamp := 12; stamp > 0 && len(l) < api.MaxRecords; stamp -= 1 + r.Intn(6) {
+			body := []string{"", "text", noise(r, r.Intn(9)), "\x03\x07\x00", "\x05\x04he\x07\x00", longest + "more"}[r.Intn(6)]
+			l = append(l, rec(key, stamp, r.Intn(3), body))
+		}
+	}
+	return l[r.Intn(len(l)):]
+}
+
+// Sealed rightly, but of any blocks, and with an index that tells of them what
+// may not be so.
+func TestP1SealedFilesOfAnyBlocks(t *testing.T) {
+	r := rand.New(rand.NewSource(4))
+	opened := 0
+	for range 1500 {
+		index := text(r.Intn(20))
+		var blocks []string
+		for range 1 + r.Intn(3) {
+			l := someRecords(r)
+			b := records(l...)
+			last := l[len(l)-1]
+			if r.Intn(4) == 0 {
+				last = rec(noise(r, r.Intn(3)), r.Intn(20), 0, "")
+			}
+			blocks = append(blocks, b)
+			index += text(len(b)+r.Intn(20)/19, len(last.Key), last.Key, last.Stamp)
+		}
+		d := onDisk(t, file(index, blocks...))
+		s, e := store.Open(d)
+		if e == api.OK {
+			opened++
+			every(d, s)
+		} else if s != nil || e != api.ErrCorrupt {
+			t.Fatalf("Open: %d", e)
+		}
+	}
+	if opened < 500 {
+		t.Errorf("only %d were opened", opened)
+	}
+}
+
 // text: numbers and texts, one behind the other, as bytes.
 func text(parts ...any) string {
 	var b strings.Builder
